@@ -55,10 +55,14 @@ func Word32(x uint64) string {
 }
 
 func ReadWord32(s string) (uint64, bool) {
+	return readWord(s, letterValues())
+}
+
+// readWord is handed the values of letters so that they are put together once for many words.
+func readWord(s string, values map[byte]uint64) (uint64, bool) {
 	if len(s) != wordSize {
 		return 0, false
 	}
-	values := letterValues()
 	x := uint64(0)
 	for i := range wordSize {
 		value, known := values[s[i]]
@@ -87,10 +91,14 @@ func Address(kind string, name string, content []byte) string {
 }
 
 func AddressOk(a string) bool {
+	return isAddress(a, letterValues())
+}
+
+func isAddress(a string, values map[byte]uint64) bool {
 	if len(a) <= wordSize || a[wordSize] != '-' {
 		return false
 	}
-	_, ok := ReadWord32(a[:wordSize])
+	_, ok := readWord(a[:wordSize], values)
 	return ok && NameOk(a[wordSize+1:])
 }
 
