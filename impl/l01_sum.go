@@ -114,6 +114,15 @@ func NameOk(s string) bool {
 	return true
 }
 
+func areNames(list []string) bool {
+	for _, s := range list {
+		if !NameOk(s) {
+			return false
+		}
+	}
+	return true
+}
+
 func inName(b byte) bool {
 	switch b {
 	case '-', '_', '.', '+':
