@@ -76,6 +76,10 @@ func fill(to reflect.Value) {
 		to.SetString("room")
 	case reflect.Int64:
 		to.SetInt(77)
+	case reflect.Uint8:
+		to.SetUint(77)
+	case reflect.Bool:
+		to.SetBool(true)
 	case reflect.Struct:
 		for i := range to.NumField() {
 			fill(to.Field(i))
@@ -105,6 +109,8 @@ func spansOf(v reflect.Value) []span {
 		for i := range v.NumField() {
 			spans = append(spans, spansOf(v.Field(i))...)
 		}
+	case reflect.Interface:
+		spans = append(spans, spansOf(v.Elem())...)
 	}
 	return spans
 }
@@ -173,7 +179,7 @@ func TestHelpers(t *testing.T) {
 		t.Error("new memory is not told from old")
 	}
 	shared := []string{"x", "y"}
-	if isNew([][]string{shared[:1], shared[1:]}) || isNew([]string{shared[0]}, shared) {
+	if isNew([]any{shared, shared[1:]}) || !isNew([]any{shared, slices.Clone(shared)}) || isNew([][]string{shared[:1], shared[1:]}) || isNew([]string{shared[0]}, shared) {
 		t.Error("shared memory is not seen")
 	}
 	seen := map[string]int{}
