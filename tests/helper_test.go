@@ -76,7 +76,7 @@ func fill(to reflect.Value) {
 		to.SetString("room")
 	case reflect.Int64:
 		to.SetInt(77)
-	case reflect.Uint8:
+	case reflect.Uint8, reflect.Uint64:
 		to.SetUint(77)
 	case reflect.Bool:
 		to.SetBool(true)
