@@ -181,7 +181,7 @@ func TestManifestsThatCanNotBe(t *testing.T) {
 	for what, spoil := range wrongHeads() {
 		manifestTextIs(t, what, changedManifest(spoil), "")
 	}
-	for _, name := range []string{"", ".", ".k", "a b", "k\n", "k\nsig 0000000000000", ":", "a:b", strings.Repeat("k", 61), "\x00", "é"} {
+	for _, name := range noKeys() {
 		manifestTextIs(t, "a Key "+name, changedManifest(func(m *impl.Manifest) { m.Key = name }), "")
 	}
 	manifestTextIs(t, "the zero value", impl.Manifest{}, "")
@@ -408,12 +408,80 @@ func TestSignManifest(t *testing.T) {
 			t.Errorf("%v, not %v", again, first)
 		}
 	}
-	// A Key that is no name is not in what is signed; there is no text with it.
-	for _, name := range []string{"", "a b", ".k", strings.Repeat("k", 61)} {
-		got := signedIs(t, name, wholeManifest(), name, goodKey)
-		if got.Key != name || got.Sig != first.Sig || impl.ManifestText(got) != "" {
-			t.Errorf("%q: %v", name, got)
+}
+
+// noKeys are texts that are no names, those too that would be further lines of a manifest.
+func noKeys() []string {
+	return append(noNames(), "..", " ", " k", ":", "/", "a@b", "\x00", "\xff", "\nk", "k\nsig 0000000000000", strings.Repeat("k", 1000))
+}
+
+// With a Key that is no name there is no text, so nothing to sign: Key and Sig stay, whatever they were.
+func TestSignManifestUnderNoName(t *testing.T) {
+	for _, key := range []string{"", "old", "a b", strings.Repeat("k", 61)} {
+		for _, sig := range []uint64{0, 9, math.MaxUint64} {
+			m := changedManifest(func(m *impl.Manifest) { m.Key, m.Sig = key, sig })
+			for _, name := range noKeys() {
+				for _, k := range []impl.Key{goodKey, otherKey, {}} {
+					if got := signedIs(t, fmt.Sprintf("the name %.80q", name), m, name, k); !same(got, m) {
+						t.Errorf("the name %.80q, once %.80q: %.300q", name, key, fmt.Sprint(got))
+					}
+				}
+			}
 		}
+	}
+	for what, spoil := range wrongHeads() {
+		m := changedManifest(spoil)
+		if got := signedIs(t, what, m, "a b", goodKey); !same(got, m) {
+			t.Errorf("%s, under no name: %.300q", what, fmt.Sprint(got))
+		}
+	}
+	if got := impl.SignManifest(impl.Manifest{}, "", goodKey); !same(got, impl.Manifest{}) {
+		t.Error(got)
+	}
+}
+
+// What is signed is the same under each name; with it there is a text, and that is accepted from who has the key under that name alone.
+func TestSignManifestUnderNames(t *testing.T) {
+	first := impl.SignManifest(wholeManifest(), "k", goodKey)
+	for _, name := range []string{"k", "9", "-", "_", "+", "a.", "key", "sig", "-.-", strings.Repeat("q", 59), strings.Repeat("q", 60)} {
+		for _, key := range []string{"", "old", "a b", name} {
+			m := changedManifest(func(m *impl.Manifest) { m.Key, m.Sig = key, 9 })
+			got := signedIs(t, "the name "+name, m, name, goodKey)
+			if got.Key != name || got.Sig != first.Sig {
+				t.Errorf("the name %q, once %q: %v", name, key, got)
+			}
+			if read, ok := impl.ReadManifest(impl.ManifestText(got)); !ok || !same(read, got) {
+				t.Errorf("the name %q: read as %v %v", name, read, ok)
+			}
+		}
+		body := plainPack(treeAt("2"))
+		signed := impl.SignManifest(manifestFor(pathAt("1"), body, pathsAt("2")), name, goodKey)
+		o := impl.Offer{Manifest: impl.ManifestText(signed), Body: body}
+		acceptIs(t, "signed under "+name, o, pathAt("1"), []impl.Trust{trusting(name, goodKey)}, 0)
+		acceptIs(t, "signed under "+name, o, pathAt("1"), []impl.Trust{trusting(name+"x", goodKey)}, 3)
+	}
+}
+
+// Every byte, alone, behind and ahead of a letter: signed is just what has a text then.
+func TestSignManifestUnderEveryByte(t *testing.T) {
+	signs := 0
+	for _, b := range allBytes() {
+		for _, name := range []string{string([]byte{b}), string([]byte{'k', b}), string([]byte{b, 'k'})} {
+			m := changedManifest(func(m *impl.Manifest) { m.Key, m.Sig = "old", 9 })
+			got := signedIs(t, fmt.Sprintf("the name %q", name), m, name, goodKey)
+			m.Key = name
+			hasText := impl.ManifestText(m) != ""
+			if hasText != impl.NameOk(name) || hasText != (got.Key == name) || hasText == (got.Sig == 9) {
+				t.Errorf("the name %q: %q", name, fmt.Sprint(got))
+			}
+			if hasText {
+				signs++
+			}
+		}
+	}
+	// A dot is in a name behind the letter alone.
+	if want := 3*(26+26+10+3) + 1; signs != want {
+		t.Errorf("%d names sign, not %d", signs, want)
 	}
 }
 
@@ -1093,8 +1161,8 @@ func TestFetchesAreNewMemory(t *testing.T) {
 	paths, pathsStay := roomyAll(pathsAt("5 1 3 1 7 9 8"))
 	m, manifestStays := roomyAll(wholeManifest())
 	wrong, wrongStays := roomyAll(changedManifest(func(m *impl.Manifest) { m.Sum = "x" }))
-	text, name := strings.Clone(wholeManifestText), strings.Clone("name")
-	given := []any{st, offers, keys, paths, m, wrong, text, name}
+	text, name, noName := strings.Clone(wholeManifestText), strings.Clone("name"), strings.Clone("no name")
+	given := []any{st, offers, keys, paths, m, wrong, text, name, noName}
 	answers, befores := []any{}, []string{}
 	see := func(answer any) {
 		if !isNew(answer, given...) {
@@ -1112,6 +1180,8 @@ func TestFetchesAreNewMemory(t *testing.T) {
 		}
 		see(impl.SignManifest(m, name, goodKey))
 		see(impl.SignManifest(wrong, name, goodKey))
+		see(impl.SignManifest(m, noName, goodKey))
+		see(impl.SignManifest(wrong, noName, goodKey))
 		for _, o := range offers {
 			impl.Accept(o, paths[1], keys)
 		}

@@ -62,7 +62,7 @@ func plainReadManifest(s string) (impl.Manifest, bool) {
 }
 
 func plainSignManifest(m impl.Manifest, name string, k impl.Key) impl.Manifest {
-	if text := plainSignedText(m); text != "" {
+	if text := plainSignedText(m); text != "" && plainNames60.MatchString(name) {
 		m.Key, m.Sig = name, plainSign(k, []byte(text))
 	}
 	return m
